@@ -1,0 +1,1 @@
+"""Heldwhen: what held when, and when it was known."""
