@@ -2,18 +2,25 @@
 
 from heldwhen.words import truth_by
 
+NO_NUMBERS = (False, ())
+ALL_NUMBERS = (True, ())
+
 
 def is_whole(thing):
     # Python counts True and False among the ints; here they are no numbers.
     return isinstance(thing, int) and not isinstance(thing, bool)
 
 
-def is_rising(numbers):
-    return all([numbers[place - 1] < numbers[place] for place in range(1, len(numbers))])
+def is_pair(thing):
+    return isinstance(thing, tuple) and len(thing) == 2
+
+
+def is_rising(things):
+    return all([things[place - 1] < things[place] for place in range(1, len(things))])
 
 
 def is_reach(thing):
-    if not isinstance(thing, tuple) or len(thing) != 2:
+    if not is_pair(thing):
         return False
     first = thing[0]
     edges = thing[1]
@@ -30,13 +37,13 @@ def lies_in(reach, number):
 
 def stretch_of(low, high):
     if low is None and high is None:
-        return (True, ())
+        return ALL_NUMBERS
     if low is None:
         return (True, (high,))
     if high is None:
         return (False, (low,))
     if high <= low:
-        return (False, ())
+        return NO_NUMBERS
     return (False, (low, high))
 
 

@@ -33,6 +33,20 @@ NOWHERE = re.compile(
     r"\b(type|typing|typing_extensions|enum|Enum|IntEnum|StrEnum|Flag|IntFlag|Generic|Protocol|ABC|ABCMeta|namedtuple"
     r"|NamedTuple|TypedDict|TYPE_CHECKING|abstractmethod)\b|dataclass|overload|contextmanager")
 
+WALKERS = ["zip", "enumerate", "reversed", "range"]
+VIEWS = ["items", "keys", "values"]
+WALKED_BY = ["list", "tuple", "dict", "sorted", "sum", "any", "all", "enumerate", "zip", "min", "max", "join"]
+KEYWORDS = {
+    "sorted": ["key", "reverse"], "min": ["key", "default"], "max": ["key", "default"], "sum": ["start"],
+    "enumerate": ["start"], "zip": ["strict"],
+}
+NO_VALUES = """
+    items keys values pop update append clear extend insert remove reverse setdefault sort args encode format
+""".split()
+FREE_VALUES = "count index title find get join lower upper split strip copy add".split()
+OWN_ERRORS = ["KeyError", "ZeroDivisionError", "StopIteration", "ValueError", "LookupError", "IndexError"]
+OF_PYTHON = [name for kind in (str, int, list, tuple, dict, set, bytes) for name in dir(kind)]
+
 
 def sources():
     return {path.stem: path.read_bytes().decode("ascii") for path in sorted(PACKAGE.glob("*.py"))}
@@ -68,6 +82,31 @@ def bound_within(tree):
         if isinstance(node, ast.FunctionDef):
             names.append(node.name)
     return names
+
+
+def with_parents(tree):
+    """Each node with the one around it."""
+    return [(child, node) for node in ast.walk(tree) for child in ast.iter_child_nodes(node)]
+
+
+def called(node):
+    """What a call calls, by its last name; None for what is no call."""
+    if not isinstance(node, ast.Call):
+        return None
+    return node.func.id if isinstance(node.func, ast.Name) else getattr(node.func, "attr", None)
+
+
+def classes_of(tree):
+    return [node for node in tree.body if isinstance(node, ast.ClassDef)]
+
+
+def values_of(node):
+    """The names that a class's methods give to self."""
+    return [part.attr for part in ast.walk(node) if isinstance(part, ast.Attribute) and isinstance(part.ctx, ast.Store)]
+
+
+def methods_of(node):
+    return [part.name for part in node.body if isinstance(part, ast.FunctionDef)]
 
 
 class Files(unittest.TestCase):
@@ -212,3 +251,100 @@ class Names(unittest.TestCase):
                     self.assertIn(node.func.attr, METHODS + own, (stem, node.lineno))
                 if isinstance(node, ast.Attribute):
                     self.assertNotIn(node.attr, UNUSED + ["format", "format_map"], (stem, node.lineno))
+
+
+class Classes(unittest.TestCase):
+    def test_no_name_is_a_method_and_a_value(self):
+        classes = [node for tree in trees().values() for node in classes_of(tree)]
+        methods = {name for node in classes for name in methods_of(node)}
+        values = {name for node in classes for name in values_of(node)}
+        self.assertFalse(methods & values)
+        for node in classes:
+            self.assertEqual(len(methods_of(node)), len(set(methods_of(node))), node.name)
+        for name in values:
+            self.assertNotIn(name, NO_VALUES)
+            self.assertTrue(name in FREE_VALUES or name not in OF_PYTHON, name)
+        for name in methods - set(DUNDERS):
+            self.assertTrue(name in METHODS + ["add", "discard"] or name not in OF_PYTHON, name)
+
+    def test_a_class_is_called_or_stands_where_it_may(self):
+        for stem, tree in trees().items():
+            names = [node.name for node in classes_of(tree)]
+            names += [name for name in imported(tree) if name[0].isupper() and not name.isupper()]
+            for child, node in with_parents(tree):
+                if isinstance(child, ast.Name) and child.id in names:
+                    here = isinstance(node, (ast.ClassDef, ast.ExceptHandler, ast.Raise))
+                    self.assertTrue(here or called(node) in (child.id, "isinstance"), (stem, child.lineno))
+
+    def test_errors_are_taken_by_name_and_raised_on_the_spot(self):
+        refusals = [node.name for node in classes_of(trees()["errors"])]
+        for stem, tree in trees().items():
+            for node in ast.walk(tree):
+                if isinstance(node, ast.ExceptHandler):
+                    taken = node.type.elts if isinstance(node.type, ast.Tuple) else [node.type]
+                    for error in taken:
+                        self.assertIn(error.id, refusals + OWN_ERRORS, (stem, node.lineno))
+                if isinstance(node, ast.Raise):
+                    self.assertIn(called(node.exc), refusals, (stem, node.lineno))
+
+    def test_a_list_or_dict_of_a_files_top_holds_none(self):
+        for stem, tree in trees().items():
+            for part in tree.body:
+                if isinstance(part, ast.Assign):
+                    within = [node for node in ast.walk(part.value) if isinstance(node, (ast.List, ast.Dict, ast.Set))]
+                    self.assertLessEqual(len(within), 1, (stem, part.lineno))
+
+
+class PythonsOwn(unittest.TestCase):
+    def test_keywords(self):
+        for stem, tree in trees().items():
+            for node in ast.walk(tree):
+                if isinstance(node, ast.Call):
+                    for keyword in node.keywords:
+                        self.assertIn(keyword.arg, KEYWORDS.get(called(node), []), (stem, node.lineno))
+
+    def test_walked_at_once(self):
+        for stem, tree in trees().items():
+            for child, node in with_parents(tree):
+                view = called(child) in VIEWS and isinstance(child.func, ast.Attribute)
+                if view or called(child) in WALKERS:
+                    looped = isinstance(node, (ast.For, ast.comprehension)) and node.iter is child
+                    self.assertTrue(looped or called(node) in WALKED_BY, (stem, child.lineno))
+
+    def test_sets_stand_beside_in_or_within_sorted_or_len(self):
+        for stem, tree in trees().items():
+            around = {child: node for child, node in with_parents(tree)}
+            for child in around:
+                if called(child) == "set" or isinstance(child, ast.Set):
+                    node = around[child]
+                    while isinstance(node, ast.BinOp):
+                        node = around[node]
+                    place = (stem, child.lineno)
+                    self.assertTrue(isinstance(node, ast.Compare) or called(node) in ("sorted", "len"), place)
+                    self.assertFalse(getattr(node, "keywords", []), place)
+
+    def test_pythons_own_are_called_not_handed_on(self):
+        may_stand = ["int", "str", "bool", "list", "tuple", "dict"]
+        for stem, tree in trees().items():
+            for child, node in with_parents(tree):
+                if isinstance(child, ast.Name) and child.id in BUILT_IN and called(node) != child.id:
+                    kinds = called(node) == "isinstance" or isinstance(node, ast.Tuple)
+                    error = isinstance(node, (ast.ClassDef, ast.ExceptHandler, ast.Tuple))
+                    key = isinstance(node, ast.keyword) and node.arg == "key"
+                    place = (stem, child.lineno)
+                    self.assertTrue(kinds and child.id in may_stand or error or key, place)
+
+    def test_methods_are_called_where_they_stand(self):
+        for stem, tree in trees().items():
+            for child, node in with_parents(tree):
+                if isinstance(child, ast.Attribute) and child.attr in METHODS and called(node) != child.attr:
+                    self.assertIn(child.attr, FREE_VALUES, (stem, child.lineno))
+
+    def test_no_power_but_a_written_one_and_no_percent_sign_in_a_text(self):
+        for stem, tree in trees().items():
+            for node in ast.walk(tree):
+                if isinstance(node, ast.BinOp) and isinstance(node.op, ast.Pow):
+                    self.assertIsInstance(node.right, ast.Constant, stem)
+                    self.assertIn(node.right.value, range(65), stem)
+                if isinstance(node, ast.Constant) and isinstance(node.value, str):
+                    self.assertNotIn("%", node.value, stem)
