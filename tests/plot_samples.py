@@ -3,7 +3,7 @@ about them said as plainly as can be."""
 
 import random
 
-from tests.samples import MANY_FIGURES, plainly_lies_in
+from tests.samples import MANY_FIGURES, NO_WORDS, WORDS, plainly_lies_in
 
 EMPTY = (False, ())
 ALL = (True, ())
@@ -11,6 +11,9 @@ NO_SPOTS = (EMPTY, ())
 ALL_SPOTS = (ALL, ())
 FAR = 10 ** 60 - 1
 LIFT_WORDS = ("moved", "ever", "always", "known", "asof", "from")
+NO_LIFTS = NO_WORDS + tuple(WORDS) + (
+    "Moved", "move", "moved ", " ever", "evers", "alway", "as of", "asof\n", "FROM", "form", "knows", "know", "is",
+)
 
 
 def plots_of_all_sorts():
@@ -97,6 +100,20 @@ def telling_turns(*plots):
 
 def telling_spots(*plots):
     return [(day, turn) for turn in telling_turns(*plots) for day in telling_days(*plots)]
+
+
+def plainly_lifted(plot, word, by, day, turn):
+    if word == "moved":
+        return plainly_at(plot, day - by, turn)
+    if word == "ever":
+        return plainly_reach_at(plot, turn) != EMPTY
+    if word == "always":
+        return plainly_reach_at(plot, turn) == ALL
+    if word == "known":
+        return any(plainly_at(plot, day, earlier) for earlier in telling_turns(plot) + [turn] if earlier <= turn)
+    if word == "asof":
+        return plainly_at(plot, day, min(turn, by))
+    return plainly_at(plot, day, turn) and turn >= by
 
 
 def is_plain_reach(thing):

@@ -1,7 +1,9 @@
 """What the tests of tables draw on: tables of all sorts, the spots to look at, and what a table is, plainly said."""
 
 import random
+import unittest
 
+from heldwhen.tables import is_table
 from tests.plot_samples import (
     ALL, ALL_SPOTS, EMPTY, NO_SPOTS, is_plain_plot, plainly_at, plots_of_all_sorts, random_plot, telling_spots,
 )
@@ -30,7 +32,11 @@ def tables_of_all_sorts():
 
 
 def random_pairs(chance, width, many, numbers=range(-2, 4)):
-    return [(tuple(chance.choice(list(numbers)) for place in range(width)), random_plot(chance)) for place in range(many)]
+    found = []
+    for place in range(many):
+        row = tuple(chance.choice(list(numbers)) for column in range(width))
+        found.append((row, random_plot(chance)))
+    return found
 
 
 def random_table(chance, width, many, numbers=range(-2, 4)):
@@ -63,3 +69,21 @@ def is_plain_table(thing):
             return False
     rows = [row for row, plot in thing]
     return len({len(row) for row in rows}) <= 1 and rows == sorted(set(rows))
+
+
+class TableCase(unittest.TestCase):
+    def assert_table(self, told):
+        self.assertIs(is_plain_table(told), True, told)
+        self.assertIs(is_table(told), True)
+
+    def assert_cuts(self, told, parts, plainly):
+        """The told table is, at each spot that matters, what is plainly made of its parts' rows there."""
+        self.assert_table(told)
+        for day, turn in table_spots(told, *parts):
+            rows = [plainly_cut(part, day, turn) for part in parts]
+            self.assertEqual(plainly_cut(told, day, turn), sorted(set(plainly(*rows))), (parts, day, turn))
+
+    def assert_refused(self, refusal, call):
+        with self.assertRaises(refusal) as caught:
+            call()
+        self.assertIs(type(caught.exception), refusal)

@@ -5,31 +5,14 @@ from heldwhen.errors import NoWord
 from heldwhen.lifts import lift
 from heldwhen.plots import is_plot
 from tests.plot_samples import (
-    ALL, ALL_SPOTS, EMPTY, FAR, LIFT_WORDS, NO_SPOTS, great_plot, is_plain_plot, plainly_at, plainly_reach_at,
-    plots_of_all_sorts, random_plots, telling_days, telling_turns,
+    ALL, ALL_SPOTS, EMPTY, FAR, LIFT_WORDS, NO_LIFTS, NO_SPOTS, great_plot, is_plain_plot, plainly_at, plainly_lifted,
+    plainly_reach_at, plots_of_all_sorts, random_plots, telling_days, telling_turns,
 )
-from tests.samples import MANY_FIGURES, NO_WORDS, WORDS
+from tests.samples import MANY_FIGURES
 
 WEEK = (False, (3, 7))
 LATER = (False, (5, 9))
 STEPPED = (EMPTY, ((1, WEEK), (4, LATER), (6, EMPTY)))
-NO_LIFTS = NO_WORDS + tuple(WORDS) + (
-    "Moved", "move", "moved ", " ever", "evers", "alway", "as of", "asof\n", "FROM", "form", "knows", "know", "is",
-)
-
-
-def plainly_lifted(plot, word, by, day, turn):
-    if word == "moved":
-        return plainly_at(plot, day - by, turn)
-    if word == "ever":
-        return plainly_reach_at(plot, turn) != EMPTY
-    if word == "always":
-        return plainly_reach_at(plot, turn) == ALL
-    if word == "known":
-        return any(plainly_at(plot, day, earlier) for earlier in telling_turns(plot) + [turn] if earlier <= turn)
-    if word == "asof":
-        return plainly_at(plot, day, min(turn, by))
-    return plainly_at(plot, day, turn) and turn >= by
 
 
 class Point13(unittest.TestCase):

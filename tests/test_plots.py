@@ -90,8 +90,8 @@ class Point9IsPlot(unittest.TestCase):
         ])
 
     def test_a_step_that_is_no_pair(self):
-        for step in ((), (1,), (1, WEEK, 2), (1, WEEK, ()), None, 1, "ab", "", True, WEEK, {1: WEEK, 2: WEEK}, (WEEK, 1),
-                     ((1, WEEK),), [1, WEEK]):
+        for step in ((), (1,), (1, WEEK, 2), (1, WEEK, ()), None, 1, "ab", "", True, WEEK,
+                     {1: WEEK, 2: WEEK}, (WEEK, 1), ((1, WEEK),), [1, WEEK]):
             self.assert_none([(EMPTY, (step,)), (EMPTY, ((0, WEEK), step)), (EMPTY, (step, (9, WEEK)))])
         self.assert_none([(EMPTY, (1, WEEK))])
 
@@ -116,7 +116,8 @@ class Point9IsPlot(unittest.TestCase):
 
     def test_a_reach_equal_to_the_one_ahead(self):
         for reach in reaches_of_all_sorts():
-            self.assert_none([(reach, ((1, reach),)), (reach, ((-1, (not reach[0], reach[1])), (0, (not reach[0], reach[1]))))])
+            turned = (not reach[0], reach[1])
+            self.assert_none([(reach, ((1, reach),)), (reach, ((-1, turned), (0, turned)))])
         self.assert_none([
             (EMPTY, ((1, EMPTY),)), (EMPTY, ((1, EMPTY), (2, WEEK))), (EMPTY, ((1, WEEK), (2, WEEK))),
             (EMPTY, ((1, WEEK), (2, EMPTY), (3, EMPTY))), (WEEK, ((1, EMPTY), (2, WEEK), (3, WEEK), (4, ALL))),
@@ -133,8 +134,8 @@ class Point9IsPlot(unittest.TestCase):
 
     def test_anything_else(self):
         self.assert_none([
-            None, True, False, 0, 1, -1, MANY_FIGURES, 1.5, "", "ab", "plot", b"ab", [], [1, 2], [EMPTY, ()], {}, {1: 2},
-            {EMPTY: ()}, {EMPTY: (), WEEK: ()}, {1, 2}, object(), int, is_plot, range(2), (x for x in NO_SPOTS),
+            None, True, False, 0, 1, -1, MANY_FIGURES, 1.5, "", "ab", "plot", b"ab", [], [1, 2], [EMPTY, ()], {},
+            {1: 2}, {EMPTY: ()}, {EMPTY: (), WEEK: ()}, {1, 2}, object(), int, is_plot, range(2), (x for x in NO_SPOTS),
         ])
         for reach in reaches_of_all_sorts():
             self.assert_none([reach])

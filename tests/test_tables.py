@@ -153,7 +153,8 @@ class Point14TableOf(unittest.TestCase):
 
 
 class Point15Cut(unittest.TestCase):
-    TABLE = [((1, 5), (EMPTY, ((1, WEEK), (4, EMPTY)))), ((1, 7), (EMPTY, ((2, LATER),))), ((2, 0), (LATER, ((0, EMPTY),)))]
+    TABLE = [((1, 5), (EMPTY, ((1, WEEK), (4, EMPTY)))), ((1, 7), (EMPTY, ((2, LATER),))),
+             ((2, 0), (LATER, ((0, EMPTY),)))]
 
     def test_written_out(self):
         for day, turn, rows in (
