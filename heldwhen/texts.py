@@ -44,6 +44,11 @@ def write_numbers(numbers):
     return [write_number(number) for number in numbers]
 
 
+def write_counted(numbers):
+    """The words of how many numbers there are, and of these."""
+    return [write_number(len(numbers))] + write_numbers(numbers)
+
+
 def write_end(end):
     return "-" if end is None else write_number(end)
 
@@ -80,3 +85,36 @@ def read_telling(text):
         raise NoText(f"no days from {low} to {high}")
     numbers = tuple([read_number(word) for word in words[5:-1]])
     return (turn, (words[0], name, numbers, low, high))
+
+
+# Takes the words of a text one after another; a word that is not there, or not so written, is refused with NoText.
+class Reader:
+    def __init__(self, text):
+        self.words = words_of(text)
+        self.place = 0
+
+    def word(self):
+        if self.place == len(self.words):
+            raise NoText("the text ends too early")
+        self.place += 1
+        return self.words[self.place - 1]
+
+    def exactly(self, wanted):
+        if self.word() != wanted:
+            raise NoText(f"{wanted!r} does not stand where it should")
+
+    def letters(self):
+        return read_letters(self.word())
+
+    def number(self):
+        return read_number(self.word())
+
+    def many(self):
+        return read_number_from(self.word(), 0)
+
+    def numbers(self):
+        return tuple([self.number() for place in range(self.many())])
+
+    def finish(self):
+        if self.place != len(self.words):
+            raise NoText("words stand behind the end")
