@@ -1,4 +1,4 @@
-"""The rows of a card as texts: its first row, its entries (a register's row with its plot), its last row."""
+"""The rows of a card as texts: its first row, its entries (a table's row with its plot), its last row."""
 
 from heldwhen.errors import NoText
 from heldwhen.plots import is_plot

@@ -58,7 +58,7 @@ class View:
         return touched
 
     def touch(self, table, turn):
-        """Steps the plots of the rows whose days at the turn are other than those in this slice."""
+        """Steps on the plots of the rows whose days in the slice are other than at the turn before, and tells these."""
         days = dict([(row, plot[0]) for row, plot in table])
         rows = sorted(set(self.plots) | set(days))
         touched = []
